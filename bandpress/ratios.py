@@ -30,6 +30,27 @@ def is_ratio(value):
     return value[1] > 0 and gcd(value[0], value[1]) == 1
 
 
+def check_ratio(value):
+    """Raises NotRatio for a value that is not a ratio."""
+    if not is_ratio(value):
+        raise NotRatio("a ratio is a tuple of two integers in lowest terms, the second one positive")
+
+
+def plus(left, right):
+    """The sum of two ratios."""
+    return reduced(left[0] * right[1] + right[0] * left[1], left[1] * right[1])
+
+
+def times(left, right):
+    """The product of two ratios."""
+    return reduced(left[0] * right[0], left[1] * right[1])
+
+
+def minus(value):
+    """A ratio with the other sign."""
+    return -value[0], value[1]
+
+
 def over_common(ratios):
     """The list of the numerators of ratios over their least common denominator, and this denominator."""
     below = 1

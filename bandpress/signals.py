@@ -3,7 +3,7 @@
 from bandpress.checks import is_integer, is_tuple
 from bandpress.errors import BadBands, BadSignal
 from bandpress.ratios import is_ratio
-from bandpress.spans import even_indexes, is_start, odd_indexes, span_of_bands
+from bandpress.spans import is_allowed, is_start, span_of_bands
 
 
 def is_signal(value):
@@ -35,12 +35,8 @@ def check_exact_signal(value):
 
 def check_bands(low, high):
     """Raises BadBands for two signals that are not the bands of a signal."""
-    span = span_of_bands(span_of(low), span_of(high))
-    if span is None:
-        raise BadBands("no signal has bands at these indexes")
-    start, stop = span
-    if not is_start(start) or stop - start > 64:
-        raise BadBands("the signal with these bands would be too long or start too far away")
+    if not is_allowed(span_of_bands(span_of(low), span_of(high)), 64):
+        raise BadBands("no signal has bands with these starts and lengths")
 
 
 def span_of(signal):
@@ -51,10 +47,9 @@ def span_of(signal):
 
 def parted(start, samples):
     """The bands, (start, samples) each, that the samples at even and at odd positions make."""
-    span = (start, start + len(samples))
     first_even = start & 1
-    low = (even_indexes(span)[0], tuple(samples[first_even::2]))
-    high = (odd_indexes(span)[0], tuple(samples[1 - first_even::2]))
+    low = ((start + 1) // 2, tuple(samples[first_even::2]))
+    high = (start // 2, tuple(samples[1 - first_even::2]))
     return low, high
 
 

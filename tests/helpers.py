@@ -15,8 +15,22 @@ NOT_SPANS = (None, True, 5, "", "01", (), (0,), (0, 1, 2), [0, 1], {0: 1, 1: 2},
 NOT_SIGNALS = (None, True, 0, "", "01", (), (0,), (0, (1,), 2), [0, (1, 2)], (0, [1, 2]), (0, {}), (0, "12"), (0, 5),
                (0, None), {}, {0: 1, 1: 2}, (True, (1, 2)), (False, ()), (None, ()), ("0", ()), ((0,), ()), (-1001, ()),
                (901, ()), (-1001, (1, 2)), (901, (1, 2)))
-# Where (1, 2) is put into a signal above, it is wrong for ratios too; these are samples of a wrong kind.
-NOT_SAMPLES = (None, True, False, "1", (), (1,), [1], {}, (True, 1), (1, 2, 3), (2, 2), (1, 0), [1, 2])
+NOT_WHOLE_SIGNALS = (*NOT_SIGNALS, *((0, (sample,)) for sample in (*NOT_INTEGERS, (1, 2))), (0, (1, 2, None)),
+                     (0, (1, True, 2)), (0, (0,) * 65), (900, (0,) * 65))
+NOT_EXACT_SIGNALS = (*NOT_SIGNALS, *((0, (value,)) for value in NOT_RATIOS), (0, ((1, 1), (2, 4))), (0, ((1, 1), 1)),
+                     (0, [(1, 1)]), (0, ((1, 1),) * 65), (901, ((1, 1),) * 2), (-1001, ((1, 1),) * 2),
+                     (True, ((1, 1),) * 2))
+NOT_SIGNAL_SPANS = (*NOT_SPANS, (0, 0), (900, 900), (-1000, -1000), (0, 65), (901, 902), (900, 965), (901, 901),
+                    (-1000, -935), (-1000, 1000))
+NOT_FOUR_LEVELS = (*NOT_INTEGERS, -1, 5)
+NOT_ROWS = (None, True, 5, "", "ab", [], [(1,)], {}, (1,), (None,), (True,), ("",), ([1],), ([],), ({},), ((1,), ()),
+            ((), (1,)), ((1, 2), (3,)), ((1,), (2, 3)), ((1,), [2]), ((1,), 2), (2, (1,)), (True, ()), ((True,),),
+            ((None,),), (("1",),), (((1,),),), (((),),), (([1],),), ((1, False),), ((1,), (None,)),
+            ((1,), (2,), (3, 4)), ((1,),) * 17, ((0,) * 17,), ((),) * 17)
+NOT_PLANES = (None, True, 0, "", "abc", (), (0,), (0, 0), (0, 0, (), ()), [0, 0, ()], {}, {0: 0, 1: 0, 2: ()},
+              ((), 0, 0), *((0, 0, rows) for rows in NOT_ROWS), (-1001, 0, ()), (0, 901, ()),
+              *((top, 0, ((1,),)) for top in (*NOT_INTEGERS, -1001, 901, 10 ** 30)),
+              *((0, left, ((1,),)) for left in (*NOT_INTEGERS, -1001, 901, -10 ** 30)))
 
 
 class PressTest(unittest.TestCase):

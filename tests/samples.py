@@ -23,6 +23,7 @@ KERNELS = (
 
 STARTS = (-1000, -999, -8, -3, -2, -1, 0, 1, 2, 7, 899, 900)
 LENGTHS = (0, 1, 2, 3, 4, 5, 6, 7, 8, 11, 63, 64)
+PLACES = ((0, 0), (1, 0), (0, 1), (-3, 5), (-1000, -1000), (-999, 899), (900, 900), (899, -999), (2, -7))
 
 
 def some_samples(count, seed):
@@ -30,6 +31,12 @@ def some_samples(count, seed):
     source = random.Random(1000 * seed + count)
     most = (3, 255, 10 ** 6, 10 ** 40)[seed % 4]
     return tuple(source.randint(-most, most) for _ in range(count))
+
+
+def some_rows(height, width, seed):
+    """Rows of integers."""
+    samples = some_samples(height * width, seed)
+    return tuple(samples[width * k:width * (k + 1)] for k in range(height))
 
 
 def some_ratios(count, seed):

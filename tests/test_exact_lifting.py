@@ -6,12 +6,10 @@ from bandpress.errors import BadBands, BadSignal, NotKernel
 from bandpress.kernels import Kernel, long_kernel, short_kernel
 from bandpress.lifting import analyze_exactly, synthesize_exactly
 from tests import reference
-from tests.helpers import NOT_KERNELS, NOT_RATIOS, NOT_SIGNALS, PressTest, faults
+from tests.helpers import NOT_EXACT_SIGNALS, NOT_KERNELS, PressTest, faults
 from tests.samples import KERNELS, LENGTHS, STARTS, some_ratios, some_steps
 
 ONE = (1, 1)
-NOT_EXACT_SIGNALS = (*NOT_SIGNALS, *((0, (value,)) for value in NOT_RATIOS), (0, (ONE, (2, 4))), (0, (ONE, 1)),
-                     (0, [ONE]), (0, (ONE,) * 65), (901, (ONE, ONE)), (-1001, (ONE, ONE)), (True, (ONE, ONE)))
 
 
 def exact_signals():

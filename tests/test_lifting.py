@@ -6,11 +6,8 @@ from bandpress.errors import BadBands, BadSignal, BadStage, NotKernel
 from bandpress.kernels import Kernel, long_kernel, short_kernel
 from bandpress.lifting import analyze, stage, synthesize
 from tests import reference
-from tests.helpers import NOT_INTEGERS, NOT_KERNELS, NOT_SAMPLES, NOT_SIGNALS, PressTest, faults
+from tests.helpers import NOT_INTEGERS, NOT_KERNELS, NOT_WHOLE_SIGNALS, PressTest, faults
 from tests.samples import KERNELS, LENGTHS, STARTS, some_samples, some_steps
-
-NOT_WHOLE_SIGNALS = (*NOT_SIGNALS, *((0, (sample,)) for sample in (*NOT_SAMPLES, (1, 2))), (0, (1, 2, None)),
-                     (0, (1, True, 2)), (0, (0,) * 65), (900, (0,) * 65))
 
 
 def whole_signals():
