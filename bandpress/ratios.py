@@ -51,6 +51,11 @@ def minus(value):
     return -value[0], value[1]
 
 
+def is_less(left, right):
+    """Whether a ratio is less than another one."""
+    return left[0] * right[1] < right[0] * left[1]
+
+
 def over_common(ratios):
     """The list of the numerators of ratios over their least common denominator, and this denominator."""
     below = 1

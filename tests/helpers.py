@@ -3,6 +3,7 @@
 import unittest
 
 from bandpress.errors import PressError
+from bandpress.kernels import short_kernel
 
 NOT_INTEGERS = (None, True, False, "", "1", (), (1,), [], [1], {}, {1: 1})
 NOT_RATIOS = (None, True, False, 0, 1, "", "12", (), (1,), (1, 2, 3), [1, 2], {1: 2}, {}, (2, 4), (0, 2), (3, 3),
@@ -31,6 +32,17 @@ NOT_PLANES = (None, True, 0, "", "abc", (), (0,), (0, 0), (0, 0, (), ()), [0, 0,
               ((), 0, 0), *((0, 0, rows) for rows in NOT_ROWS), (-1001, 0, ()), (0, 901, ()),
               *((top, 0, ((1,),)) for top in (*NOT_INTEGERS, -1001, 901, 10 ** 30)),
               *((0, left, ((1,),)) for left in (*NOT_INTEGERS, -1001, 901, -10 ** 30)))
+NOT_TABLES = (None, True, 0, "own", (), ((1, 0, 0, 0),), [], {}, short_kernel())
+NOT_BITS = (*NOT_INTEGERS, -1, 2, (0,), 10 ** 30)
+NOT_CONTEXTS = (*NOT_INTEGERS, -1, 32, (0,), -10 ** 30)
+NOT_PAIRS = (None, True, 0, 1, "", "01", (), (0,), (0, 1, 2), [0, 1], [], {}, {0: 1, 1: 0}, ((0, 1),),
+             *((bit, 0) for bit in NOT_BITS), *((0, context) for context in NOT_CONTEXTS))
+NOT_BYTES = (*NOT_INTEGERS, -1, 256, (0,), 10 ** 30)
+NOT_COEFFICIENTS = (*NOT_INTEGERS, (1, 2), 2 ** 32, -2 ** 32, 10 ** 30)
+NOT_BLOCK_ROWS = (None, True, 5, "", "ab", (), (()), ((),), ((), ()), [], [(1,)], {}, (1,), (None,), (True,), ("",),
+                  ([1],), ([],), ({},), ((1,), ()), ((), (1,)), ((1, 2), (3,)), ((1,), (2, 3)), ((1,), [2]), ((1,), 2),
+                  (2, (1,)), ((0,),) * 9, ((0,) * 9,))
+NOT_BLOCKS = (*NOT_BLOCK_ROWS, *(((value,),) for value in NOT_COEFFICIENTS), ((1, 2), (3, None)), ((1, 2), (True, 4)))
 
 
 class PressTest(unittest.TestCase):
@@ -72,7 +84,7 @@ def faults(error, values, **fields):
 
 
 def kinds(value):
-    """A value with the names of its kinds all through; own objects are told by their steps."""
+    """A value with the names of its kinds all through; own objects are told by their attributes."""
     name = value.__class__.__name__
     if isinstance(value, (tuple, list)):
         return (name, [kinds(item) for item in value])
@@ -80,4 +92,4 @@ def kinds(value):
         return (name, [(kinds(key), kinds(value[key])) for key in value])
     if value is None or isinstance(value, (int, str)):
         return (name, value)
-    return (name, kinds(value.steps))
+    return (name, kinds(vars(value)))
