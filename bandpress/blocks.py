@@ -2,8 +2,8 @@
 
 from bandpress.checks import is_integer, is_rows
 from bandpress.errors import BadBlock
+from bandpress.shapes import LONGEST_SIDE
 
-SIDE = 8
 MOST_PLANES = 32
 
 
@@ -26,7 +26,7 @@ def is_coefficient(value):
 
 def check_block(value):
     """Raises BadBlock for a value that is not a block."""
-    if not is_rows(value, SIDE, is_coefficient):
+    if not is_rows(value, LONGEST_SIDE, is_coefficient):
         raise BadBlock("a block is 1 to 8 rows of 1 to 8 integers less than 2 ** 32 in size")
 
 

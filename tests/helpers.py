@@ -39,10 +39,14 @@ NOT_PAIRS = (None, True, 0, 1, "", "01", (), (0,), (0, 1, 2), [0, 1], [], {}, {0
              *((bit, 0) for bit in NOT_BITS), *((0, context) for context in NOT_CONTEXTS))
 NOT_BYTES = (*NOT_INTEGERS, -1, 256, (0,), 10 ** 30)
 NOT_COEFFICIENTS = (*NOT_INTEGERS, (1, 2), 2 ** 32, -2 ** 32, 10 ** 30)
-NOT_BLOCK_ROWS = (None, True, 5, "", "ab", (), (()), ((),), ((), ()), [], [(1,)], {}, (1,), (None,), (True,), ("",),
+NOT_BLOCK_ROWS = (None, True, 5, "", "ab", (), ((),), ((), ()), [], [(1,)], {}, (1,), (None,), (True,), ("",),
                   ([1],), ([],), ({},), ((1,), ()), ((), (1,)), ((1, 2), (3,)), ((1,), (2, 3)), ((1,), [2]), ((1,), 2),
                   (2, (1,)), ((0,),) * 9, ((0,) * 9,))
 NOT_BLOCKS = (*NOT_BLOCK_ROWS, *(((value,),) for value in NOT_COEFFICIENTS), ((1, 2), (3, None)), ((1, 2), (True, 4)))
+NOT_SIDES = (*NOT_INTEGERS, 0, 9, -1, 10 ** 30)
+NOT_SHAPES = (None, True, 8, "", "12", (), (1,), (1, 2, 3), [1, 2], {}, {1: 1, 2: 2}, ((1, 2),),
+              *((side, 3) for side in NOT_SIDES), *((3, side) for side in NOT_SIDES))
+NOT_SLOPES = (*NOT_RATIOS, (-1, 1), (-3, 2), (-1, 10 ** 30))
 
 
 class PressTest(unittest.TestCase):

@@ -24,7 +24,7 @@ class Walk:
                 self.digits[r, c] = 0
                 self.coded_down_to[r, c] = planes
 
-    def run(self, count):
+    def run(self, count, before_pass=lambda number: None):
         """Codes the first passes, and returns the list of the lists of their cells."""
         result = []
         for p in range(self.planes - 1, -1, -1):
@@ -33,6 +33,7 @@ class Walk:
             for kind in ("cleanup",) if p == self.planes - 1 else ("significance", "refinement", "cleanup"):
                 if len(result) == count:
                     return result
+                before_pass(len(result))
                 result.append(self.one_pass(kind, p, before, in_plane))
         return result
 
