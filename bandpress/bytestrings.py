@@ -36,3 +36,17 @@ def written_number(data):
 def as_bytes(number, count):
     """The byte string of so many bytes that writes an integer."""
     return tuple([(number >> (8 * place)) & 255 for place in reversed(range(count))])
+
+
+def bits_of(data):
+    """The tuple of the bits of a byte string; the first bit of a byte has the weight 128."""
+    return tuple([(byte >> place) & 1 for byte in data for place in reversed(range(8))])
+
+
+def bytes_of(bits):
+    """The byte string that bits make, with zeros to fill up the last byte."""
+    count = (len(bits) + 7) // 8
+    number = 0
+    for bit in bits:
+        number = 2 * number + bit
+    return as_bytes(number << (8 * count - len(bits)), count)

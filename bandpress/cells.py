@@ -16,9 +16,9 @@ class Cells:
         self.height = height
         self.width = width
         self.planes = planes
-        self.order = [(row, column) for row in range(height) for column in range(width)]
-        self.lowest = {cell: planes for cell in self.order}
-        self.sizes = {cell: 0 for cell in self.order}
+        self.in_order = [(row, column) for row in range(height) for column in range(width)]
+        self.lowest = {cell: planes for cell in self.in_order}
+        self.sizes = {cell: 0 for cell in self.in_order}
         self.signs = {}
         self.refined = {}
 

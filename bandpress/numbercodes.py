@@ -1,6 +1,6 @@
 """Codes of numbers: bits that tell by themselves where they end."""
 
-from bandpress.bitstrings import bit_at, check_bit_position, check_bits
+from bandpress.bitstrings import HeardBits, check_bit_position, check_bits
 from bandpress.checks import is_integer
 from bandpress.errors import BadNumber
 
@@ -18,13 +18,17 @@ def read_number(bits, position):
     """The number whose bits begin at a position, and the position behind them."""
     check_bits(bits)
     check_bit_position(position, bits)
+    source = HeardBits(bits, position)
+    number = number_from(source)
+    return number, source.behind
+
+
+def number_from(source):
+    """The number whose bits come next from a source of bits."""
     count = 0
-    while bit_at(bits, position) == 1:
+    while source.bit() == 1:
         count += 1
-        position += 1
-    position += 1
     number = 1
     for _ in range(count):
-        number = 2 * number + bit_at(bits, position)
-        position += 1
-    return number - 1, position
+        number = 2 * number + source.bit()
+    return number - 1

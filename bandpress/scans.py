@@ -56,7 +56,7 @@ def code_pass(cells, number, source):
     plane_index, kind = divmod(number + 2, 3)
     plane = cells.planes - 1 - plane_index
     coded = []
-    for cell in cells.order:
+    for cell in cells.in_order:
         if is_due(cells, cell, plane, kind):
             code_cell(cells, cell, plane, source)
             coded.append(cell)

@@ -1,10 +1,10 @@
 """Tag trees: bits that tell whether values are less than thresholds, and what a reader learns from them."""
 
-from bandpress.bitstrings import check_bit_position, check_bits
+from bandpress.bitstrings import HeardBits, check_bit_position, check_bits
 from bandpress.checks import is_rows, is_tuple, is_within
 from bandpress.errors import BadBits, BadQueries, BadTree
 from bandpress.shapes import LONGEST_SIDE, check_shape
-from bandpress.trees import GREATEST, HeardBits, Nodes, ValueBits
+from bandpress.trees import GREATEST, Nodes, ValueBits
 from bandpress.trees import check_query, copied, is_leaf, is_threshold, limits_of, visit
 
 MOST_QUERIES = 400

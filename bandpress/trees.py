@@ -1,6 +1,5 @@
 """What writers and readers of tag trees have in common: bounds of nodes, and how queries raise them."""
 
-from bandpress.bitstrings import bit_at
 from bandpress.checks import is_within
 from bandpress.errors import BadLeaf, BadThreshold
 
@@ -30,20 +29,6 @@ class ValueBits:
         is_same = self._levels[level][row][column] == bound
         self.told.append(1 if is_same else 0)
         return is_same
-
-
-class HeardBits:
-    """Takes the bits from a tuple, from a position on, and keeps the position behind them as `behind`."""
-
-    def __init__(self, bits, position):
-        self._bits = bits
-        self.behind = position
-
-    def value_is(self, node, bound):
-        """Whether the value of a node is a bound."""
-        bit = bit_at(self._bits, self.behind)
-        self.behind += 1
-        return bit == 1
 
 
 def copied(nodes):
