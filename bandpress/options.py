@@ -1,6 +1,6 @@
 """The options of the codec."""
 
-from bandpress.checks import is_tuple, is_within
+from bandpress.checks import is_integer, is_tuple, is_within
 from bandpress.errors import BadOptions, NotOptions
 from bandpress.kernels import long_kernel, short_kernel
 
@@ -90,7 +90,7 @@ class Options:
 
 def is_kernel_name(value):
     """Whether a value is the name of a kernel of the codec."""
-    return isinstance(value, str) and value in KERNELS
+    return value in KERNELS
 
 
 def is_level_count(value):
@@ -100,7 +100,7 @@ def is_level_count(value):
 
 def is_side(value):
     """Whether a value may be the option side."""
-    return is_within(value, SIDES[0], SIDES[1]) and value in SIDES
+    return is_integer(value) and value in SIDES
 
 
 def are_cuts(value):

@@ -52,8 +52,7 @@ def region_masks(kernel, levels, tile, region):
     top, left, bottom, right = region
     inner_rows = tuple(range(max(rows[0], top), min(rows[1], bottom)))
     inner_columns = tuple(range(max(columns[0], left), min(columns[1], right)))
-    if inner_rows == () or inner_columns == ():
-        return needed_masks(kernel, levels, tile, (), ())
+    # If there are no rows or no columns, the masks are empty, because each is a product of both.
     return needed_masks(kernel, levels, tile, inner_rows, inner_columns)
 
 

@@ -21,6 +21,7 @@ GIVEN = (
     {"colors": True, "kernel": "long", "levels": 3, "side": 8, "cuts": (15, 9, 4, 0), "order": "crtl"},
     {"tile_height": 3, "tile_width": 3, "levels": 2, "cuts": (10, 2), "order": "rlct"},
     {"tile_height": 2, "tile_width": 2, "levels": 1, "cuts": (12, 0), "order": "clrt"},
+    {"shift": 16, "cuts": (9, 0)}, {"shift": 1, "colors": True, "levels": 1},
     {"region": (0, 0, 100, 100), "shift": 16}, {"region": (0, 0, 100, 100), "shift": 0},
     {"region": (99, 99, 100, 100), "shift": 11}, {"region": (5, 6, 9, 40), "shift": 11, "cuts": (30, 14, 0)},
     {"region": (0, 0, 8, 100), "shift": 13, "kernel": "long", "levels": 3, "tile_height": 8, "colors": True},

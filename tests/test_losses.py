@@ -248,6 +248,13 @@ class CertainTest(PressTest):
                       codec.certain(frame, {**codec.DEFAULTS, "levels": 0, "region": (0, 2, 1, 3), "shift": 3},
                                     read_received(frame, options, packets)))
 
+    def test_a_shift_without_a_region_does_nothing(self):
+        # The range from 4 to 5 is divided into one value, 1, only if there is a region.
+        for region, expected in ((None, False), ((0, 0, 1, 1), True)):
+            options = Options(levels=0, region=region, shift=2)
+            packets = pack((0, 0, (((1 if region else 5,),),)), options.changed(cuts=(3,)))
+            self.same(certain((0, 0, 1, 1, 1), options, packets), (((expected,),),))
+
     def test_pictures_with_a_region_of_exact_samples(self):
         picture = some_picture((1, 2, 8, 9, 1), 5)
         for shift in (9, 11, 16):

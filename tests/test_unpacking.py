@@ -275,6 +275,13 @@ class PictureOfTest(PressTest):
             lambda least, most: least == most < 0, lambda least, most: least < most < 0,
             lambda least, most: least < 0 < most, lambda least, most: least == most == 0)))
 
+    def test_a_shift_without_a_region_does_nothing(self):
+        for shift in (1, 8, 16):
+            options = Options(levels=0, shift=shift)
+            packets = pack(ONE, options)
+            self.same(packets, pack(ONE, PLAIN))
+            self.same(picture_of(ONE_FRAME, options, packets), ONE)
+
     def test_a_region_written_out(self):
         # What is less than 2 ** shift lies outside the mask, and stays; what is not is divided.
         for sample, shift in ((7, 3), (-7, 3), (1, 1), (0, 4), (255, 8)):
